@@ -1,0 +1,1 @@
+"""Canonwheel: beats that fill a wheel."""
