@@ -1,20 +1,11 @@
 """[5] and [8]: beats that are made, and counts."""
 
 import unittest
-from itertools import combinations
 
 from canonwheel.beats import beat_counts, is_partner, made_beat
 from canonwheel.errors import NoBeat
 from canonwheel.turns import turned
-
-BIG = 10 ** 29 + 7
-
-
-def all_beats(length):
-    beats = []
-    for size in range(1, length + 1):
-        beats += [list(places) for places in combinations(range(length), size)]
-    return beats
+from helpers import BIG, all_beats
 
 
 class MadeBeat(unittest.TestCase):

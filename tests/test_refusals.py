@@ -4,9 +4,11 @@ import unittest
 
 from canonwheel.beats import beat_counts, is_partner, made_beat
 from canonwheel.errors import NoBeat, NoWheel
+from canonwheel.parts import parts_had
+from canonwheel.rules import first_rule, made_partner, second_rule
+from canonwheel.shares import prime_powers, shares
 from canonwheel.turns import first_turn, multiplied, own_turn, repeated, spread, turned
-
-BIG = 10 ** 29 + 7
+from helpers import BIG, refusal
 
 # Each takes a length and a beat; where starts are taken, the beat stands as each of the two.
 TAKE_A_BEAT = {
@@ -26,11 +28,19 @@ TAKE_A_BEAT = {
     "spread very often": lambda length, beat: spread(length, beat, 61),
     "own_turn": own_turn,
     "first_turn": first_turn,
+    "parts_had": parts_had,
+    "shares, beat": lambda length, beat: shares(length, beat, [0]),
+    "shares, starts": lambda length, beat: shares(length, [0], beat),
+    "first_rule": first_rule,
+    "second_rule": second_rule,
+    "made_partner": made_partner,
 }
 TAKE_A_LENGTH = dict(TAKE_A_BEAT)
 TAKE_A_LENGTH["made_beat"] = made_beat
 TAKE_A_LENGTH["beat_counts, both"] = lambda length, beat: beat_counts(length, beat, beat)
 TAKE_A_LENGTH["is_partner, both"] = lambda length, beat: is_partner(length, beat, beat)
+TAKE_A_LENGTH["shares, both"] = lambda length, beat: shares(length, beat, beat)
+TAKE_A_LENGTH["prime_powers"] = lambda length, beat: prime_powers(length)
 
 NO_LENGTHS = [0, -1, -2, -59, -60, -61, 61, 62, 120, 1000, BIG, -BIG]
 ANY_LISTS = [[], [0], [0, 1], [0, 0], [1, 0], [-1], [60], [61], [BIG], ["x"], [None, "y"], [[0]], [(0, 1), 2]]
@@ -53,23 +63,19 @@ class Refusals(unittest.TestCase):
             for length in NO_LENGTHS:
                 for numbers in ANY_LISTS:
                     with self.subTest(name=name, length=length, numbers=numbers):
-                        with self.assertRaises(NoWheel):
-                            call(length, list(numbers))
+                        self.assertIs(refusal(call, length, list(numbers)), NoWheel)
 
     def test_no_beat_next(self):
         for name, call in TAKE_A_BEAT.items():
             for length in [1, 2, 3, 5, 8, 31, 59, 60]:
                 for numbers in lists_that_are_no_beat(length):
                     with self.subTest(name=name, length=length, numbers=numbers):
-                        with self.assertRaises(NoBeat):
-                            call(length, list(numbers))
+                        self.assertIs(refusal(call, length, list(numbers)), NoBeat)
 
     def test_two_lists_that_are_no_beats(self):
-        for call in [beat_counts, is_partner]:
-            with self.assertRaises(NoBeat):
-                call(4, [], [4])
-            with self.assertRaises(NoWheel):
-                call(61, [], [4])
+        for call in [beat_counts, is_partner, shares]:
+            self.assertIs(refusal(call, 4, [], [4]), NoBeat)
+            self.assertIs(refusal(call, 61, [], [4]), NoWheel)
 
     def test_lengths_at_the_edges_are_taken(self):
         for length in [1, 60]:
@@ -84,6 +90,12 @@ class Refusals(unittest.TestCase):
             self.assertEqual(spread(length, [length - 1], 1), [length - 1])
             self.assertEqual(own_turn(length, [0]), length)
             self.assertEqual(first_turn(length, [length - 1]), [0])
+            self.assertEqual(parts_had(length, [length - 1]), [])
+            self.assertEqual(len(shares(length, whole, [length - 1])), length // 60 * 11)
+            self.assertEqual(len(prime_powers(length)), length // 60 * 4)
+            self.assertIs(first_rule(length, whole), True)
+            self.assertIs(second_rule(length, whole), True)
+            self.assertEqual(made_partner(length, [length - 1]), whole)
 
 
 if __name__ == "__main__":

@@ -1,19 +1,10 @@
 """[6], [7] and [9]: beats turned, multiplied, repeated and spread; own and first turns."""
 
 import unittest
-from itertools import combinations
 
 from canonwheel.errors import NoBeat, NoWheel
 from canonwheel.turns import first_turn, multiplied, own_turn, repeated, spread, turned
-
-BIG = 10 ** 29 + 7
-
-
-def all_beats(length):
-    beats = []
-    for size in range(1, length + 1):
-        beats += [list(places) for places in combinations(range(length), size)]
-    return beats
+from helpers import BIG, all_beats
 
 
 class Turned(unittest.TestCase):

@@ -1,14 +1,17 @@
 """[1], [2] and [3]: what holds for every function, and for partners."""
 
 import unittest
-from itertools import combinations
+from copy import deepcopy
 from math import gcd
 
 from canonwheel.beats import beat_counts, is_partner, made_beat
 from canonwheel.errors import WheelError
+from canonwheel.parts import divisors, has_part, part, parts_had
+from canonwheel.rules import first_rule, made_partner, second_rule
+from canonwheel.shares import prime_powers, shares
+from canonwheel.sums import beat_sum, sum_divided, sum_product
 from canonwheel.turns import first_turn, multiplied, own_turn, repeated, spread, turned
-
-BIG = 10 ** 29 + 7
+from helpers import BIG, small_partners
 
 # Each call with its arguments; the lists among them are handed in anew for each asking.
 CALLS = [
@@ -28,6 +31,36 @@ CALLS = [
     (own_turn, 8, [0, 2, 4, 6]),
     (first_turn, 8, [0, 1, 3]),
     (first_turn, 8, [1, 2, 4]),
+    (beat_sum, []),
+    (beat_sum, [0]),
+    (beat_sum, [1, 4]),
+    (sum_product, [], [2, 3]),
+    (sum_product, [2, 3], [1]),
+    (sum_product, [1], [2, 3]),
+    (sum_product, [-BIG, 0, 5], [0, BIG]),
+    (sum_divided, [], [1]),
+    (sum_divided, [2, 3], [1]),
+    (sum_divided, [2, 3], [0, 0, 1]),
+    (sum_divided, [2, 3, 0, -BIG], [5, 0, 1]),
+    (divisors, 1),
+    (divisors, 60),
+    (part, 1),
+    (part, 2),
+    (part, 12),
+    (part, 60),
+    (has_part, [0, 1], 2),
+    (has_part, [0, 1], 60),
+    (parts_had, 12, [0, 2, 4]),
+    (parts_had, 60, [7]),
+    (shares, 12, [0, 2, 4], [0, 3, 6, 9]),
+    (shares, 1, [0], [0]),
+    (prime_powers, 1),
+    (prime_powers, 60),
+    (first_rule, 12, [0, 2, 4]),
+    (second_rule, 12, [0, 1, 2, 3, 5, 7]),
+    (made_partner, 12, [0, 2, 4]),
+    (made_partner, 1, [0]),
+    (made_partner, 60, list(range(60))),
 ]
 REFUSED = [
     (made_beat, 8, [9, 1]),
@@ -37,6 +70,15 @@ REFUSED = [
     (multiplied, 8, [0, 4], 2),
     (repeated, 8, [0, 4], 9),
     (spread, 8, [0, 4], 0),
+    (sum_divided, [1, 2, 3], [1, 2]),
+    (sum_divided, [1, 2, 3], []),
+    (has_part, [0, 1], 61),
+    (parts_had, 8, [3, 2]),
+    (shares, 8, [0, 1], [3, 2]),
+    (first_rule, 61, [3, 2]),
+    (second_rule, 8, [3, 3]),
+    (made_partner, 12, [0, 4]),
+    (made_partner, 12, [0, 1, 2, 3, 5, 7]),
 ]
 
 
@@ -44,24 +86,11 @@ def copied(arguments):
     return [list(argument) if isinstance(argument, list) else argument for argument in arguments]
 
 
-def partners(length, size):
-    """All pairs of a beat of so many places and a partner of it, 0 among both."""
-    pairs = []
-    for rest in combinations(range(1, length), size - 1):
-        for others in combinations(range(1, length), length // size - 1):
-            beat = [0] + list(rest)
-            starts = [0] + list(others)
-            if len({(place + start) % length for place in beat for start in starts}) == length:
-                pairs.append((beat, starts))
-    return pairs
-
-
-def small_partners():
-    found = []
-    for length in range(1, 13):
-        for size in [number for number in range(1, length + 1) if length % number == 0]:
-            found += [(length, beat, starts) for beat, starts in partners(length, size)]
-    return found
+def lists_told(told):
+    """The lists that an answer is or has in it."""
+    if isinstance(told, list):
+        return [told]
+    return [value for value in told if isinstance(value, list)] if isinstance(told, tuple) else []
 
 
 class ListsAreTheAskersOwn(unittest.TestCase):
@@ -84,11 +113,10 @@ class ListsAreTheAskersOwn(unittest.TestCase):
         for call, *arguments in CALLS:
             handed = copied(arguments)
             told = call(*handed)
-            if not isinstance(told, list):
-                continue
-            kept = list(told)
-            told[0] = 77
-            told.append(99)
+            kept = deepcopy(told)
+            for numbers in lists_told(told):
+                numbers[:1] = [77]
+                numbers.append(99)
             with self.subTest(call=call, arguments=arguments):
                 self.assertEqual(handed, arguments)
                 self.assertEqual(call(*handed), kept)
@@ -97,7 +125,7 @@ class ListsAreTheAskersOwn(unittest.TestCase):
         for call, *arguments in CALLS:
             handed = copied(arguments)
             told = call(*handed)
-            kept = list(told) if isinstance(told, list) else told
+            kept = deepcopy(told)
             for argument in handed:
                 if isinstance(argument, list):
                     argument.reverse()
@@ -109,18 +137,36 @@ class ListsAreTheAskersOwn(unittest.TestCase):
     def test_one_list_as_beat_and_starts(self):
         both = [0, 1]
         self.assertEqual(beat_counts(4, both, both), [1, 2, 1, 0])
+        self.assertEqual(shares(4, both, both), [(2, True, True), (4, False, False)])
         self.assertIs(is_partner(1, [0], [0]), True)
         self.assertEqual(both, [0, 1])
+
+    def test_one_list_as_both_sums(self):
+        both = [2, -3, 1]
+        self.assertEqual(sum_product(both, both), [4, -12, 13, -6, 1])
+        self.assertEqual(sum_divided(both, both), ([1], []))
+        self.assertEqual(both, [2, -3, 1])
+
+    def test_answers_are_none_the_other_for_a_changed_part(self):
+        for number in range(1, 61):
+            part(number).reverse()
+            part(number).append(1)
+            divisors(number).clear()
+        self.assertEqual(part(12), [1, 0, -1, 0, 1])
+        self.assertEqual(parts_had(12, [0, 6]), [4, 12])
+        self.assertEqual(made_partner(12, [0, 6]), [0, 3, 4, 7, 8, 11])
 
 
 class Kinds(unittest.TestCase):
     def test_lists_of_ints_are_told(self):
         for call, *arguments in CALLS:
-            if call in (is_partner, own_turn):
+            if call in (is_partner, own_turn, has_part, shares, first_rule, second_rule):
                 continue
-            told = call(*copied(arguments))
-            self.assertIs(type(told), list)
-            self.assertEqual({type(number) for number in told}, {int})
+            told = lists_told(call(*copied(arguments)))
+            self.assertEqual(len(told), 2 if call == sum_divided else 1)
+            for numbers in told:
+                self.assertIs(type(numbers), list)
+                self.assertLessEqual({type(number) for number in numbers}, {int})
 
     def test_an_int_and_a_truth_are_told(self):
         self.assertIs(type(own_turn(8, [0, 4])), int)
