@@ -10,16 +10,20 @@ def check_wheel(length):
         raise NoWheel("a wheel has 1 to 60 places")
 
 
+def check_rising(numbers, end):
+    if len(numbers) == 0:
+        raise NoBeat("a beat has one place at least")
+    before = -1
+    for number in numbers:
+        if number <= before or number >= end:
+            raise NoBeat("a beat is a rising list of places, none below 0 or too far on")
+        before = number
+
+
 # The length comes first: beside one that no wheel has, the list may hold anything.
 def check_beat(length, beat):
     check_wheel(length)
-    if len(beat) == 0:
-        raise NoBeat("a beat has one place at least")
-    before = -1
-    for place in beat:
-        if place <= before or place >= length:
-            raise NoBeat("a beat is a rising list of places of the wheel")
-        before = place
+    check_rising(beat, length)
 
 
 def made_beat(length, numbers):

@@ -80,3 +80,24 @@ def vanishes(beat, number):
     for prime in [prime for prime in PRIMES if number % prime == 0]:
         around = [around[place - number // prime] - around[place] for place in range(number)]
     return not any(around)
+
+
+def fall(length, beat, starts):
+    """The places on which a beat falls when begun at the starts, as a set."""
+    return {(place + start) % length for place in beat for start in starts}
+
+
+def cases_in_order(length, beat, starts=(0,)):
+    """The starts of one case after the other, as they are gone into, the case that is handed in first."""
+    yield list(starts)
+    filled = fall(length, beat, starts)
+    if len(filled) < length:
+        least = min(set(range(length)) - filled)
+        for place in beat:
+            more = (least - place) % length
+            if not filled & fall(length, beat, [more]):
+                yield from cases_in_order(length, beat, [*starts, more])
+
+
+def fills(length, beat, starts):
+    return len(beat) * len(starts) == length and len(fall(length, beat, starts)) == length

@@ -105,11 +105,31 @@ class Form(unittest.TestCase):
                     self.assertLessEqual(len(node.bases), 1, (name, node.name))
                     self.assertEqual(node.decorator_list, [], (name, node.name))
 
+    def test_class_bodies(self):
+        for name, tree in trees():
+            for node in [node for node in tree.body if isinstance(node, ast.ClassDef)]:
+                for part in node.body:
+                    self.assertIsInstance(part, (ast.FunctionDef, ast.Pass, ast.Expr), (name, node.name))
+
+    def test_no_name_is_a_method_and_a_value(self):
+        methods = set()
+        values = set()
+        for name, tree in trees():
+            for node in ast.walk(tree):
+                if isinstance(node, ast.ClassDef):
+                    methods.update(part.name for part in node.body if isinstance(part, ast.FunctionDef))
+                if isinstance(node, ast.Attribute) and isinstance(node.ctx, ast.Store):
+                    values.add(node.attr)
+        self.assertEqual(methods & values, set())
+        for own in methods | values:
+            for kind in (int, str, list, dict, set, bytes):
+                self.assertFalse(hasattr(kind, own) and own != "__init__", own)
+
     def test_names(self):
         for name, tree in trees():
             for bound in bound_names(tree):
                 self.assertRegex(bound, r"\A([A-Za-z][A-Za-z0-9_]*|__(init|eq|repr|str|len)__)\Z", name)
-                self.assertFalse(hasattr(builtins, bound), (name, bound))
+                self.assertFalse(bound != "__init__" and hasattr(builtins, bound), (name, bound))
             for node in ast.walk(tree):
                 if isinstance(node, ast.Name) and hasattr(builtins, node.id):
                     self.assertIn(node.id, OWN_NAMES, (name, node.lineno))

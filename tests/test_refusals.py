@@ -3,7 +3,10 @@
 import unittest
 
 from canonwheel.beats import beat_counts, is_partner, made_beat
+from canonwheel.cases import sought_partner
 from canonwheel.errors import NoBeat, NoWheel
+from canonwheel.lines import wheel_window
+from canonwheel.partners import all_partners, partner_kinds
 from canonwheel.parts import parts_had
 from canonwheel.rules import first_rule, made_partner, second_rule
 from canonwheel.shares import prime_powers, shares
@@ -34,12 +37,18 @@ TAKE_A_BEAT = {
     "first_rule": first_rule,
     "second_rule": second_rule,
     "made_partner": made_partner,
+    "sought_partner": sought_partner,
+    "all_partners": all_partners,
+    "partner_kinds": partner_kinds,
+    "wheel_window, beat": lambda length, beat: wheel_window(length, beat, [0]),
+    "wheel_window, starts": lambda length, beat: wheel_window(length, [0], beat),
 }
 TAKE_A_LENGTH = dict(TAKE_A_BEAT)
 TAKE_A_LENGTH["made_beat"] = made_beat
 TAKE_A_LENGTH["beat_counts, both"] = lambda length, beat: beat_counts(length, beat, beat)
 TAKE_A_LENGTH["is_partner, both"] = lambda length, beat: is_partner(length, beat, beat)
 TAKE_A_LENGTH["shares, both"] = lambda length, beat: shares(length, beat, beat)
+TAKE_A_LENGTH["wheel_window, both"] = lambda length, beat: wheel_window(length, beat, beat)
 TAKE_A_LENGTH["prime_powers"] = lambda length, beat: prime_powers(length)
 
 NO_LENGTHS = [0, -1, -2, -59, -60, -61, 61, 62, 120, 1000, BIG, -BIG]
@@ -73,7 +82,7 @@ class Refusals(unittest.TestCase):
                         self.assertIs(refusal(call, length, list(numbers)), NoBeat)
 
     def test_two_lists_that_are_no_beats(self):
-        for call in [beat_counts, is_partner, shares]:
+        for call in [beat_counts, is_partner, shares, wheel_window]:
             self.assertIs(refusal(call, 4, [], [4]), NoBeat)
             self.assertIs(refusal(call, 61, [], [4]), NoWheel)
 
@@ -96,6 +105,10 @@ class Refusals(unittest.TestCase):
             self.assertIs(first_rule(length, whole), True)
             self.assertIs(second_rule(length, whole), True)
             self.assertEqual(made_partner(length, [length - 1]), whole)
+            self.assertEqual(sought_partner(length, [length - 1]), ("starts", whole))
+            self.assertEqual(all_partners(length, whole), [[0]])
+            self.assertEqual(partner_kinds(length, [length - 1]), [whole])
+            self.assertEqual(wheel_window(length, [0], whole), 0)
 
 
 if __name__ == "__main__":

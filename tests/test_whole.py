@@ -5,13 +5,16 @@ from copy import deepcopy
 from math import gcd
 
 from canonwheel.beats import beat_counts, is_partner, made_beat
+from canonwheel.cases import sought_partner
 from canonwheel.errors import WheelError
+from canonwheel.lines import line_run, line_step, wheel_window
+from canonwheel.partners import all_partners, partner_kinds
 from canonwheel.parts import divisors, has_part, part, parts_had
 from canonwheel.rules import first_rule, made_partner, second_rule
 from canonwheel.shares import prime_powers, shares
 from canonwheel.sums import beat_sum, sum_divided, sum_product
 from canonwheel.turns import first_turn, multiplied, own_turn, repeated, spread, turned
-from helpers import BIG, small_partners
+from helpers import BIG, all_beats, small_partners
 
 # Each call with its arguments; the lists among them are handed in anew for each asking.
 CALLS = [
@@ -61,6 +64,24 @@ CALLS = [
     (made_partner, 12, [0, 2, 4]),
     (made_partner, 1, [0]),
     (made_partner, 60, list(range(60))),
+    (sought_partner, 12, [0, 2, 4]),
+    (sought_partner, 12, [0, 1, 2, 3, 4]),
+    (sought_partner, 12, [0, 4]),
+    (sought_partner, 12, [0, 1, 2, 3, 5, 7]),
+    (sought_partner, 24, [4, 7, 9, 11, 14, 21]),
+    (sought_partner, 1, [0]),
+    (all_partners, 8, [0, 4]),
+    (all_partners, 8, [0, 4, 5]),
+    (all_partners, 1, [0]),
+    (partner_kinds, 8, [0, 4]),
+    (partner_kinds, 8, [0, 4, 5]),
+    (partner_kinds, 1, [0]),
+    (line_step, [0, 2], 2),
+    (line_step, [0, 1, 2], 2),
+    (line_run, [0, 2], 2),
+    (line_run, [0], 0),
+    (line_run, [0, 2, 3], 0),
+    (wheel_window, 4, [0, 2], [0, 3]),
 ]
 REFUSED = [
     (made_beat, 8, [9, 1]),
@@ -79,6 +100,22 @@ REFUSED = [
     (second_rule, 8, [3, 3]),
     (made_partner, 12, [0, 4]),
     (made_partner, 12, [0, 1, 2, 3, 5, 7]),
+    (sought_partner, 57, [33, 40, 47]),
+    (sought_partner, 8, [3, 2]),
+    (all_partners, 60, [0, 30]),
+    (all_partners, 8, [3, 2]),
+    (partner_kinds, 60, [0, 30]),
+    (partner_kinds, 8, [3, 2]),
+    (line_step, [0, 2], 4),
+    (line_step, [0, 2, 1], 0),
+    (line_run, [0, 2], -1),
+    (line_run, [1, 2], 0),
+    (wheel_window, 4, [0, 2], [3, 0]),
+]
+# Each tells a list of ints; sum_divided two of them.
+TELL_INTS = [
+    made_beat, beat_counts, turned, multiplied, repeated, spread, first_turn, beat_sum, sum_product, sum_divided, divisors,
+    part, parts_had, prime_powers, made_partner,
 ]
 
 
@@ -87,10 +124,12 @@ def copied(arguments):
 
 
 def lists_told(told):
-    """The lists that an answer is or has in it."""
-    if isinstance(told, list):
-        return [told]
-    return [value for value in told if isinstance(value, list)] if isinstance(told, tuple) else []
+    """The lists that an answer is or has in it, at whatever depth."""
+    found = [told] if isinstance(told, list) else []
+    if isinstance(told, (list, tuple)):
+        for value in told:
+            found += lists_told(value)
+    return found
 
 
 class ListsAreTheAskersOwn(unittest.TestCase):
@@ -114,9 +153,9 @@ class ListsAreTheAskersOwn(unittest.TestCase):
             handed = copied(arguments)
             told = call(*handed)
             kept = deepcopy(told)
-            for numbers in lists_told(told):
-                numbers[:1] = [77]
-                numbers.append(99)
+            for values in lists_told(told):
+                values[:1] = [77]
+                values.append(99)
             with self.subTest(call=call, arguments=arguments):
                 self.assertEqual(handed, arguments)
                 self.assertEqual(call(*handed), kept)
@@ -133,6 +172,13 @@ class ListsAreTheAskersOwn(unittest.TestCase):
             with self.subTest(call=call, arguments=arguments):
                 self.assertEqual(told, kept)
                 self.assertEqual(call(*copied(arguments)), kept)
+
+    def test_no_list_is_told_twice(self):
+        for call, *arguments in CALLS:
+            handed = copied(arguments)
+            found = lists_told(call(*handed)) + lists_told(call(*handed)) + lists_told(handed)
+            with self.subTest(call=call, arguments=arguments):
+                self.assertEqual(len({id(values) for values in found}), len(found))
 
     def test_one_list_as_beat_and_starts(self):
         both = [0, 1]
@@ -160,7 +206,7 @@ class ListsAreTheAskersOwn(unittest.TestCase):
 class Kinds(unittest.TestCase):
     def test_lists_of_ints_are_told(self):
         for call, *arguments in CALLS:
-            if call in (is_partner, own_turn, has_part, shares, first_rule, second_rule):
+            if call not in TELL_INTS:
                 continue
             told = lists_told(call(*copied(arguments)))
             self.assertEqual(len(told), 2 if call == sum_divided else 1)
@@ -171,6 +217,37 @@ class Kinds(unittest.TestCase):
     def test_an_int_and_a_truth_are_told(self):
         self.assertIs(type(own_turn(8, [0, 4])), int)
         self.assertIs(type(is_partner(8, [0, 4], [0])), bool)
+
+
+class PartnersAreTold(unittest.TestCase):
+    """[3]: what is told as a partner fills the wheel, and where none is told there is none."""
+
+    def test_short_wheels(self):
+        having_one = {(length, tuple(beat)) for length, beat, starts in small_partners()}
+        for length in range(1, 13):
+            for beat in [beat for beat in all_beats(length) if beat[0] == 0]:
+                told = sought_partner(length, beat)
+                found = all_partners(length, beat)
+                self.assertEqual(told[0] == "starts", (length, tuple(beat)) in having_one)
+                self.assertEqual(told[0] == "starts", found != [])
+                if found:
+                    self.assertIn(told[1], found)
+                    self.assertIs(first_rule(length, beat), True)
+                    self.assertIs(is_partner(length, beat, made_partner(length, beat)), True)
+
+    def test_parts_are_shared_out(self):
+        for length, beat in [(8, [0, 4]), (12, [0, 6]), (12, [0, 2, 4]), (20, [0, 10]), (60, [8, 45, 55, 58])]:
+            for starts in all_partners(length, beat):
+                for number, one, other in shares(length, beat, starts):
+                    self.assertTrue(one or other)
+                    if number in prime_powers(length):
+                        self.assertNotEqual(one, other)
+
+    def test_a_multiplied_beat_keeps_them_all(self):
+        for length, beat in [(8, [0, 4]), (12, [0, 6]), (12, [0, 2, 4]), (20, [0, 10]), (60, [8, 45, 55, 58])]:
+            for by in [by for by in range(1, length) if gcd(by, len(beat)) == 1]:
+                for starts in all_partners(length, beat):
+                    self.assertIs(is_partner(length, multiplied(length, beat, by), starts), True)
 
 
 class PartnersAreKept(unittest.TestCase):
