@@ -114,8 +114,8 @@ REFUSED = [
 ]
 # Each tells a list of ints; sum_divided two of them.
 TELL_INTS = [
-    made_beat, beat_counts, turned, multiplied, repeated, spread, first_turn, beat_sum, sum_product, sum_divided, divisors,
-    part, parts_had, prime_powers, made_partner,
+    made_beat, beat_counts, turned, multiplied, repeated, spread, first_turn, beat_sum, sum_product, sum_divided,
+    divisors, part, parts_had, prime_powers, made_partner,
 ]
 
 
