@@ -9,6 +9,7 @@ MOST_CASES = 2000
 
 
 # What is laid are pairs (start, places), the places being those on which a beat falls from that start, rising.
+# In a mix the kind stands beside the start: ((kind, start), places).
 class Case:
     def __init__(self, laid, answers, at):
         self.laid = laid
@@ -63,13 +64,35 @@ def places_filled(laid):
     return filled
 
 
-def partner_walk(length, beat):
+# For each place of the wheel: the starts that bring the beat there, one for each of its places, as pairs to be laid.
+def ways_of(length, beat):
     falls = [turned(length, beat, start) for start in range(length)]
     ways = []
     for place in range(length):
         starts = [(place - own) % length for own in beat]
         ways.append([(start, falls[start]) for start in starts])
-    return Walk(ways, [(0, falls[0])])
+    return ways
+
+
+def first_that_fills(walk):
+    while len(walk.waiting) > 0:
+        found = walk.go_on()
+        if found is not None:
+            return found
+    return None
+
+
+def all_that_fill(walk):
+    fillings = []
+    while len(walk.waiting) > 0:
+        found = walk.go_on()
+        if found is not None:
+            fillings.append(found)
+    return fillings
+
+
+def partner_walk(length, beat):
+    return Walk(ways_of(length, beat), [(0, beat)])
 
 
 def count_divides(length, beat):
@@ -83,8 +106,7 @@ def sought_partner(length, beat):
     if not first_rule(length, beat):
         return ("barred", "parts")
     walk = partner_walk(length, beat)
-    while len(walk.waiting) > 0:
-        starts = walk.go_on()
-        if starts is not None:
-            return ("starts", starts)
-    return ("barred", walk.rows)
+    starts = first_that_fills(walk)
+    if starts is None:
+        return ("barred", walk.rows)
+    return ("starts", starts)

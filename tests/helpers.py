@@ -99,5 +99,27 @@ def cases_in_order(length, beat, starts=(0,)):
                 yield from cases_in_order(length, beat, [*starts, more])
 
 
+def mix_fall(length, kinds, pairs):
+    """The places on which the beats fall when begun as the pairs (kind, start) say, one for each falling."""
+    return [(place + start) % length for kind, start in pairs for place in kinds[kind]]
+
+
+def mix_cases(length, kinds, pairs=()):
+    """The pairs of one case after the other, as they are gone into, the case that is handed in first."""
+    yield list(pairs)
+    filled = set(mix_fall(length, kinds, pairs))
+    if len(filled) < length:
+        least = min(set(range(length)) - filled)
+        for kind, beat in enumerate(kinds):
+            for place in beat:
+                more = (kind, (least - place) % length)
+                if not filled & set(mix_fall(length, kinds, [more])):
+                    yield from mix_cases(length, kinds, [*pairs, more])
+
+
+def mix_fills(length, kinds, pairs):
+    return sorted(mix_fall(length, kinds, pairs)) == list(range(length))
+
+
 def fills(length, beat, starts):
     return len(beat) * len(starts) == length and len(fall(length, beat, starts)) == length

@@ -105,6 +105,50 @@ class Form(unittest.TestCase):
                     self.assertLessEqual(len(node.bases), 1, (name, node.name))
                     self.assertEqual(node.decorator_list, [], (name, node.name))
 
+    def test_the_top_of_a_file(self):
+        for name, tree in trees():
+            bound = []
+            for node in tree.body:
+                self.assertIsInstance(node, (ast.ImportFrom, ast.FunctionDef, ast.ClassDef, ast.Assign, ast.Expr), name)
+                if isinstance(node, ast.Expr):
+                    self.assertIs(node, tree.body[0], name)
+                    self.assertIsInstance(node.value, ast.Constant, name)
+                if isinstance(node, ast.ImportFrom):
+                    bound += [alias.asname or alias.name for alias in node.names]
+                if isinstance(node, (ast.FunctionDef, ast.ClassDef)):
+                    bound.append(node.name)
+                if isinstance(node, ast.Assign):
+                    bound.append(node.targets[0].id)
+                    self.check_plain_value(name, node.value)
+            self.assertEqual(len(bound), len(set(bound)), name)
+
+    def check_plain_value(self, name, value):
+        inner = [node for node in ast.walk(value) if isinstance(node, ast.expr) and node is not value]
+        self.assertIsInstance(value, (ast.Constant, ast.List, ast.Tuple, ast.Dict), name)
+        for node in inner:
+            self.assertIsInstance(node, (ast.Constant, ast.Tuple, ast.Name), name)
+
+    def test_no_local_is_called_like_a_class_or_an_import(self):
+        for name, tree in trees():
+            taken = {node.name for node in tree.body if isinstance(node, ast.ClassDef)}
+            for node in tree.body:
+                if isinstance(node, ast.ImportFrom):
+                    taken.update(alias.name for alias in node.names)
+            for node in [node for node in tree.body if isinstance(node, (ast.FunctionDef, ast.ClassDef))]:
+                self.assertEqual(taken & set(bound_names(node)) - {node.name}, set(), name)
+
+    def test_imports_come_from_where_a_name_is_defined(self):
+        defined = {}
+        for name, tree in trees():
+            own = [node.name for node in tree.body if isinstance(node, (ast.FunctionDef, ast.ClassDef))]
+            own += [node.targets[0].id for node in tree.body if isinstance(node, ast.Assign)]
+            defined["canonwheel." + name.removesuffix(".py")] = own
+        for name, tree in trees():
+            for node in tree.body:
+                if isinstance(node, ast.ImportFrom):
+                    for alias in node.names:
+                        self.assertIn(alias.name, defined[node.module], name)
+
     def test_class_bodies(self):
         for name, tree in trees():
             for node in [node for node in tree.body if isinstance(node, ast.ClassDef)]:

@@ -6,10 +6,13 @@ from canonwheel.beats import beat_counts, is_partner, made_beat
 from canonwheel.cases import sought_partner
 from canonwheel.errors import NoBeat, NoWheel
 from canonwheel.lines import wheel_window
+from canonwheel.mixes import mix_count, sought_mix
 from canonwheel.partners import all_partners, partner_kinds
 from canonwheel.parts import parts_had
 from canonwheel.rules import first_rule, made_partner, second_rule
 from canonwheel.shares import prime_powers, shares
+from canonwheel.texts import beat_text
+from canonwheel.tori import laid_up
 from canonwheel.turns import first_turn, multiplied, own_turn, repeated, spread, turned
 from helpers import BIG, refusal
 
@@ -42,6 +45,12 @@ TAKE_A_BEAT = {
     "partner_kinds": partner_kinds,
     "wheel_window, beat": lambda length, beat: wheel_window(length, beat, [0]),
     "wheel_window, starts": lambda length, beat: wheel_window(length, [0], beat),
+    "sought_mix": lambda length, beat: sought_mix(length, [beat]),
+    "sought_mix, last": lambda length, beat: sought_mix(length, [[0], [0], [0], beat]),
+    "mix_count": lambda length, beat: mix_count(length, [beat]),
+    "mix_count, last": lambda length, beat: mix_count(length, [[0], [0], [0], beat]),
+    "laid_up": lambda length, beat: laid_up((length, 1), beat),
+    "beat_text": beat_text,
 }
 TAKE_A_LENGTH = dict(TAKE_A_BEAT)
 TAKE_A_LENGTH["made_beat"] = made_beat
@@ -49,6 +58,8 @@ TAKE_A_LENGTH["beat_counts, both"] = lambda length, beat: beat_counts(length, be
 TAKE_A_LENGTH["is_partner, both"] = lambda length, beat: is_partner(length, beat, beat)
 TAKE_A_LENGTH["shares, both"] = lambda length, beat: shares(length, beat, beat)
 TAKE_A_LENGTH["wheel_window, both"] = lambda length, beat: wheel_window(length, beat, beat)
+TAKE_A_LENGTH["sought_mix, kinds"] = sought_mix
+TAKE_A_LENGTH["mix_count, kinds"] = mix_count
 TAKE_A_LENGTH["prime_powers"] = lambda length, beat: prime_powers(length)
 
 NO_LENGTHS = [0, -1, -2, -59, -60, -61, 61, 62, 120, 1000, BIG, -BIG]
@@ -109,6 +120,10 @@ class Refusals(unittest.TestCase):
             self.assertEqual(all_partners(length, whole), [[0]])
             self.assertEqual(partner_kinds(length, [length - 1]), [whole])
             self.assertEqual(wheel_window(length, [0], whole), 0)
+            self.assertEqual(sought_mix(length, [whole]), ("mix", [(0, 0)]))
+            self.assertEqual(mix_count(length, [[length - 1]]), 1)
+            self.assertEqual(laid_up((length, 1), [length - 1]), [(length - 1, 0)])
+            self.assertEqual(beat_text(length, whole), "x" * length)
 
 
 if __name__ == "__main__":

@@ -53,7 +53,8 @@ class Multiplied(unittest.TestCase):
         self.assertEqual(multiplied(60, [1, 2, 59], 7), [7, 14, 53])
 
     def test_by_numbers_with_which_two_come_to_one_place(self):
-        for length, beat, by in [(8, [0, 4], 2), (8, [1, 3, 5], 4), (8, [0, 1], 8), (60, [0, 1, 20], 3), (2, [0, 1], 0)]:
+        cases = [(8, [0, 4], 2), (8, [1, 3, 5], 4), (8, [0, 1], 8), (60, [0, 1, 20], 3), (2, [0, 1], 0)]
+        for length, beat, by in cases:
             with self.subTest(length=length, beat=beat, by=by):
                 with self.assertRaises(NoBeat):
                     multiplied(length, beat, by)

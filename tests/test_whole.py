@@ -6,13 +6,17 @@ from math import gcd
 
 from canonwheel.beats import beat_counts, is_partner, made_beat
 from canonwheel.cases import sought_partner
+from canonwheel.desk import Desk
 from canonwheel.errors import WheelError
 from canonwheel.lines import line_run, line_step, wheel_window
+from canonwheel.mixes import mix_count, sought_mix
 from canonwheel.partners import all_partners, partner_kinds
 from canonwheel.parts import divisors, has_part, part, parts_had
 from canonwheel.rules import first_rule, made_partner, second_rule
 from canonwheel.shares import prime_powers, shares
 from canonwheel.sums import beat_sum, sum_divided, sum_product
+from canonwheel.texts import beat_text, read_beat
+from canonwheel.tori import laid_flat, laid_up, torus_partner
 from canonwheel.turns import first_turn, multiplied, own_turn, repeated, spread, turned
 from helpers import BIG, all_beats, small_partners
 
@@ -82,6 +86,20 @@ CALLS = [
     (line_run, [0], 0),
     (line_run, [0, 2, 3], 0),
     (wheel_window, 4, [0, 2], [0, 3]),
+    (sought_mix, 8, [[0, 1, 3], [0]]),
+    (sought_mix, 1, [[0]]),
+    (sought_mix, 5, [[0, 2], [0, 1, 2]]),
+    (mix_count, 8, [[0, 1, 3], [0]]),
+    (mix_count, 5, [[0, 2], [0, 1, 2]]),
+    (torus_partner, (2, 3), [(0, 0), (1, 1)], [(0, 0), (0, 1), (0, 2)]),
+    (torus_partner, (2, 2), [(0, 0), (1, 1)], [(0, 0)]),
+    (laid_flat, (2, 3), [(0, 1), (0, 2), (1, 0)]),
+    (laid_flat, (1, 1), [(0, 0)]),
+    (laid_up, (2, 3), [2, 3, 4]),
+    (laid_up, (1, 1), [0]),
+    (read_beat, "x..x"),
+    (read_beat, "x"),
+    (beat_text, 4, [0, 3]),
 ]
 REFUSED = [
     (made_beat, 8, [9, 1]),
@@ -111,16 +129,29 @@ REFUSED = [
     (line_run, [0, 2], -1),
     (line_run, [1, 2], 0),
     (wheel_window, 4, [0, 2], [3, 0]),
+    (sought_mix, 60, [[5, 27, 46]]),
+    (sought_mix, 8, [[0, 1], [3, 2]]),
+    (sought_mix, 8, [[0], [0], [1], [1], [2]]),
+    (mix_count, 60, [[0, 30], [0, 29]]),
+    (mix_count, 8, [[0, 1], 5]),
+    (torus_partner, (2, 3), [(0, 0), (1, 1)], [(0, 1), (0, 0)]),
+    (torus_partner, (7, 9), [(1, 1), (0, 0)], [[3], 1]),
+    (laid_flat, (2, 2), [(0, 0), (1, 1)]),
+    (laid_flat, (2, 3), [(1, 1), (0, 0)]),
+    (laid_up, (2, 2), [0, 3]),
+    (laid_up, (2, 3), [3, 0]),
+    (read_beat, ["x", "."]),
+    (beat_text, 4, [3, 0]),
 ]
 # Each tells a list of ints; sum_divided two of them.
 TELL_INTS = [
     made_beat, beat_counts, turned, multiplied, repeated, spread, first_turn, beat_sum, sum_product, sum_divided,
-    divisors, part, parts_had, prime_powers, made_partner,
+    divisors, part, parts_had, prime_powers, made_partner, laid_flat, read_beat,
 ]
 
 
 def copied(arguments):
-    return [list(argument) if isinstance(argument, list) else argument for argument in arguments]
+    return deepcopy(list(arguments))
 
 
 def lists_told(told):
@@ -165,10 +196,9 @@ class ListsAreTheAskersOwn(unittest.TestCase):
             handed = copied(arguments)
             told = call(*handed)
             kept = deepcopy(told)
-            for argument in handed:
-                if isinstance(argument, list):
-                    argument.reverse()
-                    argument.append(5)
+            for values in lists_told(handed)[1:]:
+                values.reverse()
+                values.append(5)
             with self.subTest(call=call, arguments=arguments):
                 self.assertEqual(told, kept)
                 self.assertEqual(call(*copied(arguments)), kept)
@@ -176,7 +206,7 @@ class ListsAreTheAskersOwn(unittest.TestCase):
     def test_no_list_is_told_twice(self):
         for call, *arguments in CALLS:
             handed = copied(arguments)
-            found = lists_told(call(*handed)) + lists_told(call(*handed)) + lists_told(handed)
+            found = lists_told(call(*handed)) + lists_told(call(*handed)) + lists_told(handed)[1:]
             with self.subTest(call=call, arguments=arguments):
                 self.assertEqual(len({id(values) for values in found}), len(found))
 
@@ -186,6 +216,27 @@ class ListsAreTheAskersOwn(unittest.TestCase):
         self.assertEqual(shares(4, both, both), [(2, True, True), (4, False, False)])
         self.assertIs(is_partner(1, [0], [0]), True)
         self.assertEqual(both, [0, 1])
+
+    def test_one_list_as_each_kind(self):
+        both = [0, 1]
+        self.assertEqual(sought_mix(4, [both, both]), ("mix", [(0, 0), (0, 2)]))
+        self.assertEqual(mix_count(4, [both, both]), 8)
+        self.assertEqual(both, [0, 1])
+
+    def test_one_list_on_the_torus(self):
+        both = [(0, 0), (0, 1)]
+        self.assertIs(torus_partner((2, 2), both, both), False)
+        self.assertIs(torus_partner((1, 4), both, both), False)
+        self.assertEqual(both, [(0, 0), (0, 1)])
+
+    def test_a_desk_has_its_deeds_behind_it_and_no_other(self):
+        desk = Desk()
+        desk.say("beat a x...x...")
+        kept = [desk.say(command) for command in ("show a", "parts a", "kinds a", "own a")]
+        for call, *arguments in CALLS:
+            for values in lists_told(call(*copied(arguments))):
+                values.clear()
+        self.assertEqual([desk.say(command) for command in ("show a", "parts a", "kinds a", "own a")], kept)
 
     def test_one_list_as_both_sums(self):
         both = [2, -3, 1]
@@ -214,7 +265,16 @@ class Kinds(unittest.TestCase):
                 self.assertIs(type(numbers), list)
                 self.assertLessEqual({type(number) for number in numbers}, {int})
 
+    def test_spots_and_texts_are_told(self):
+        for spot in laid_up((2, 3), [2, 3, 4]):
+            self.assertEqual([type(spot), len(spot), type(spot[0]), type(spot[1])], [tuple, 2, int, int])
+        self.assertIs(type(beat_text(4, [0, 3])), str)
+        self.assertEqual([type(read_beat("x..x")), type(read_beat("x..x")[0])], [tuple, int])
+        self.assertIs(type(Desk().say("names")), str)
+
     def test_an_int_and_a_truth_are_told(self):
+        self.assertIs(type(mix_count(8, [[0, 4]])), int)
+        self.assertIs(type(torus_partner((1, 1), [(0, 0)], [(0, 0)])), bool)
         self.assertIs(type(own_turn(8, [0, 4])), int)
         self.assertIs(type(is_partner(8, [0, 4], [0])), bool)
 
