@@ -246,6 +246,12 @@ class Refusals(unittest.TestCase):
                     self.assertIs(refusal(laid_flat, sides, numbers), NoWheel)
                     self.assertIs(refusal(laid_up, sides, numbers), NoWheel)
 
+    def test_not_just_two_sides(self):
+        for sides in [(), (1,), (6,), (1, 1, 1), (2, 3, 1)]:
+            for call in [laid_flat, laid_up]:
+                self.assertIs(refusal(call, sides, [(0, 0)]), NoWheel)
+            self.assertIs(refusal(torus_partner, sides, [(0, 0)], [(0, 0)]), NoWheel)
+
     def test_just_so_many_spots(self):
         for one in range(1, 63):
             for other in range(1, 63):
