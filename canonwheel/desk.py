@@ -15,7 +15,7 @@ LETTERS = "abcdefghijklmnopqrstuvwxyz"
 MOST_FIGURES = 6
 FIGURES = "0123456789"
 
-# What stands behind the first word of each command; a beat must be kept by a name that is kept.
+# What stands behind the first word of each command; "kept" is a name by which a beat must be kept already.
 FORMS = {
     "beat": ("new", "text"),
     "turn": ("new", "kept", "number"),
